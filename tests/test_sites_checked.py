@@ -235,8 +235,15 @@ class TestStartAndKeep(Checked):
         with self.assertRaises(TypeError):
             Site((), PAGES, "home", 3)
 
-    def test_nothing_is_left_behind_or_changed_by_a_call_that_raises(self):
-        pages = (("home", ([("refuse",)], {}, False)), ("desk", [[]]))
+
+class TestArguments(Checked):
+    def test_they_are_not_changed(self):
+        rows = [("refuse",), {"a": []}]
+        pages = (("home", (rows, {}, False)), ("desk", PLAIN))
         before = copy.deepcopy(pages)
-        self.assert_wrong("pages", (), pages=pages)
+        self.assert_wrong("rows", ("home", "enter", ()), pages=pages)
+        with self.assertRaises(InvalidSite):
+            site_with().with_guard("desk", "leave", rows)
+        with self.assertRaises(InvalidSite):
+            site_with((REFUSE,)).with_row(("desk", "enter", (0,)), rows)
         self.assertEqual(pages, before)
