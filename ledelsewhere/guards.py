@@ -7,7 +7,8 @@ from ledelsewhere.sites import branches, has_position_form, rows_with_positions,
 def run_guard(site, page, side, flags, answers=()):
     """Does the guard from its first row; returns (outcome, flags, where)."""
     rows = checked_rows(site, page, side, flags)
-    return go_on(site.bits, rows, flags, (0,), answers)
+    outcome, after, where, met = go_on(site.bits, rows, flags, (0,), answers)
+    return outcome, after, where
 
 
 def resume_guard(site, page, side, flags, position, answers=()):
@@ -15,7 +16,8 @@ def resume_guard(site, page, side, flags, position, answers=()):
     rows = checked_rows(site, page, side, flags)
     if not is_ask_position(rows, position):
         raise InvalidPosition(position)
-    return go_on(site.bits, rows, flags, position, answers)
+    outcome, after, where, met = go_on(site.bits, rows, flags, position, answers)
+    return outcome, after, where
 
 
 def all_ends(site, page, side, flags):
@@ -62,27 +64,33 @@ def is_ask_position(rows, value):
 
 
 def go_on(bits, rows, flags, position, answers):
-    """Does the guard from the position on, which is that of a row or one behind the last row beside it."""
+    """Does the guard from the position on, which is that of a row or one behind the last row beside it.
+
+    Returns (outcome, flags, where, met): met lists the pairs (position, row) of the rows that were reached.
+    """
+    met = []
     used = 0
     while position is not None:
         row = row_or_none(rows, position)
         if row is None:
             position = behind(position[:-2])
-        elif row[0] == "if":
+            continue
+        met.append((position, row))
+        if row[0] == "if":
             position = into_branch(position, flags[bits.index(row[1])])
         elif row[0] == "ask":
             if used == len(answers):
-                return "wait", flags, position
+                return "wait", flags, position, met
             position = into_branch(position, answers[used])
             used = used + 1
         elif row[0] == "set":
             flags = with_item(flags, bits.index(row[1]), row[2])
             position = behind(position)
         elif row[0] == "lead":
-            return "lead", flags, row[1]
+            return "lead", flags, row[1], met
         else:
-            return "refuse", flags, None
-    return "let", flags, None
+            return "refuse", flags, None, met
+    return "let", flags, None, met
 
 
 def row_or_none(rows, position):
@@ -111,7 +119,7 @@ def into_branch(position, flag):
 
 def ends_from(bits, rows, flags, position, given):
     """The ends behind the given answers; the last of them, if there is one, answers the ask row at the position."""
-    outcome, after, where = go_on(bits, rows, flags, position, given[-1:])
+    outcome, after, where, met = go_on(bits, rows, flags, position, given[-1:])
     if outcome != "wait":
         return [(given, outcome, after, where)]
     ends = []

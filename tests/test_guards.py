@@ -8,12 +8,15 @@ import unittest
 from ledelsewhere.errors import InvalidFlags, InvalidPosition, InvalidSide, UnknownPage
 from ledelsewhere.guards import all_ends, lets, letting_answers, resume_guard, run_guard
 from ledelsewhere.sites import Site
-from tests.helpers import ANY_VALUES, REFUSE, deep_value, nest, same, site_with
+from tests.helpers import (
+    ANY_VALUES, REFUSE, deep_value, labelled, made_rows, nest, rest_from, same, site_with,
+)
 
 HOME = ("lead", "home")
 YES = ("set", "in", True)
 NO = ("set", "in", False)
 OUT = ("set", "out", True)
+WORDS = ("if", "if", "ask", "ask", "ask", "set", "set", "refuse", "lead")
 FUNCTIONS = (run_guard, resume_guard, all_ends, letting_answers, lets)
 
 
@@ -236,24 +239,6 @@ class TestErrors(unittest.TestCase):
                 self.assert_raises(InvalidFlags, value, function, site, "desk", "enter", value)
 
 
-def labelled(rows, before=()):
-    """Each row as (position, row, the two labelled lists of rows inside it)."""
-    found = []
-    for index, row in enumerate(rows):
-        here = before + (index,)
-        inside = [labelled(inner, here + (at,)) for at, inner in enumerate(row[-2:]) if row[0] in ("if", "ask")]
-        found.append((here, row, inside))
-    return found
-
-
-def rest_from(todo, position):
-    """The labelled rows from the position on, as they follow one another."""
-    if len(position) == 1:
-        return todo[position[0]:]
-    inside = todo[position[0]][2][position[1]]
-    return rest_from(inside, position[2:]) + todo[position[0] + 1:]
-
-
 def slowly_done(todo, flags, answers):
     """Does labelled rows of a site with the bits in and out, with a list of what is still to do."""
     flags = dict(zip(("in", "out"), flags))
@@ -273,30 +258,11 @@ def slowly_done(todo, flags, answers):
     return end[0], tuple(flags.values()), end[1]
 
 
-def made_rows(source, many, depth):
-    """So many rows and fewer, made up from the source of random numbers."""
-    rows = []
-    while many > 0:
-        word = source.choice(("if", "if", "ask", "ask", "ask", "set", "set", "refuse", "lead"))
-        many = many - 1
-        if word in ("if", "ask") and depth < 4:
-            inside = source.randint(0, many)
-            first = source.randint(0, inside)
-            both = (made_rows(source, first, depth + 1), made_rows(source, inside - first, depth + 1))
-            rows.append(("if", source.choice(("in", "out"))) + both if word == "if" else ("ask",) + both)
-            many = many - inside
-        elif word == "set":
-            rows.append(("set", source.choice(("in", "out")), source.choice((False, True))))
-        elif source.randint(0, 2) == 0:
-            rows.append(REFUSE if word == "refuse" else ("lead", source.choice(("home", "desk"))))
-    return tuple(rows)
-
-
 class TestAgainstASecondWay(unittest.TestCase):
     def test_made_up_guards(self):
         source = random.Random(2026)
         for _ in range(300):
-            rows = made_rows(source, source.randint(3, 8), 1)
+            rows = made_rows(source, source.randint(3, 8), WORDS, ("in", "out"), ("home", "desk"))
             flags = (source.choice((False, True)), source.choice((False, True)))
             with self.subTest(rows=rows, flags=flags):
                 self.compare(site_with(rows), rows, flags)

@@ -14,6 +14,19 @@ FUNCTIONS = {
         "letting_answers": "site, page, side, flags",
         "lets": "site, page, side, flags",
     },
+    "rules": {"all_rules": ""},
+    "standings": {
+        "all_flags": "site",
+        "put_page": "site, history, place, page",
+        "is_standing": "site, rule, value",
+        "is_deed": "site, value",
+        "deeds": "site, *, flips=True",
+    },
+    "routing": {
+        "begin": "site, rule, flags",
+        "step": "site, rule, standing, deed",
+    },
+    "judge": {"faults": "site, rule, step"},
 }
 METHODS = {
     ("sites", "Site"): {
@@ -28,6 +41,14 @@ METHODS = {
         "with_guard": "page, side, rows",
         "is_quiet": "",
     },
+    ("rules", "Rule"): {
+        "__init__": "turn, newer, *, lead='put', again=False, backs=True",
+        "__eq__": "other",
+        "__str__": "",
+        "with_part": "part, value",
+        "named": "cls, text",
+    },
+    ("routing", "Step"): {"__init__": "deed, before, after, events, done"},
 }
 BARRED_WORDS = (
     "type", "typing", "typing_extensions", "enum", "Enum", "IntEnum", "StrEnum", "Flag", "IntFlag", "Generic",
