@@ -5,12 +5,33 @@ from ledelsewhere.guards import lets
 KINDS = ("apart", "barred", "passed", "doubled", "late", "unasked", "written", "round")
 
 
+class Lettings:
+    """Which guards of a site let by; each one is looked at once only for each tuple of flags."""
+
+    def __init__(self, site):
+        self.site = site
+        self.known = {}
+
+    def are_let(self, page, side, flags):
+        """True if the guard lets by under the flags."""
+        key = (page, side, flags)
+        if key not in self.known:
+            self.known[key] = lets(self.site, page, side, flags)
+        return self.known[key]
+
+
 def faults(site, rule, step):
     """A list of the pairs (kind, page), the kinds in their order, then the pages in that of the site."""
+    return faults_with(Lettings(site), rule, step)
+
+
+def faults_with(lettings, rule, step):
+    """The faults; whoever judges many Steps of one site passes the same lettings, which makes this quick."""
+    site = lettings.site
     pages = {
         "apart": apart_pages(step),
-        "barred": barred_pages(site, step),
-        "passed": passed_pages(site, step),
+        "barred": barred_pages(lettings, step),
+        "passed": passed_pages(lettings, step),
         "doubled": doubled_pages(step),
         "late": shown_late(step),
         "unasked": unasked_pages(site, rule, step),
@@ -18,7 +39,7 @@ def faults(site, rule, step):
         # A deed that is led too often raises, so there is no Step of it.
         "round": [],
     }
-    return [(kind, page) for kind in KINDS for page in site.page_names() if page in pages[kind]]
+    return [(kind, page) for kind in KINDS if pages[kind] for page in site.page_names() if page in pages[kind]]
 
 
 def arrivals(step):
@@ -44,19 +65,19 @@ def apart_pages(step):
     return []
 
 
-def barred_pages(site, step):
+def barred_pages(lettings, step):
     """The newly shown pages whose enter guards do not let by."""
     flags = step.after[0]
-    return [page for page in newly_shown(step) if not lets(site, page, "enter", flags)]
+    return [page for page in newly_shown(step) if not lettings.are_let(page, "enter", flags)]
 
 
-def passed_pages(site, step):
+def passed_pages(lettings, step):
     """The elder page if another page is newly shown although the leave guard does not let by."""
     if step.before is None:
         return []
     flags = step.after[0]
     elder = step.before[1]
-    if any([page != elder for page in newly_shown(step)]) and not lets(site, elder, "leave", flags):
+    if any([page != elder for page in newly_shown(step)]) and not lettings.are_let(elder, "leave", flags):
         return [elder]
     return []
 

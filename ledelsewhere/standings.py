@@ -24,6 +24,12 @@ def put_page(site, history, place, page):
     return entries, len(entries) - 1
 
 
+def view_of(standing):
+    """The address and the page that is shown, a pair."""
+    flags, shown, history, place, way, late = standing
+    return history[place], shown
+
+
 def is_standing(site, rule, value):
     """True if the value, which is any value, is a standing of the site under the rule."""
     if not isinstance(value, tuple) or len(value) != 6:
