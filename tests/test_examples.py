@@ -1,16 +1,28 @@
-"""The examples of the document that speak of sites, guards, rules, deeds and faults."""
+"""The examples of the document."""
 
 import unittest
 
-from ledelsewhere.errors import InvalidSite, TooManyLeads
+from ledelsewhere.alike import classes, difference, parting, rules_alike
+from ledelsewhere.books import Book, is_closed, shows_free
+from ledelsewhere.counting import least_shown, lost, most_leads
+from ledelsewhere.desk import Desk
+from ledelsewhere.errors import InvalidSite, InvalidText, LimitExceeded, TooManyLeads
 from ledelsewhere.guards import all_ends, letting_answers, resume_guard, run_guard
+from ledelsewhere.heals import heals, rules_free
 from ledelsewhere.judge import faults
+from ledelsewhere.live import Live
 from ledelsewhere.routing import begin, step
 from ledelsewhere.rules import Rule
 from ledelsewhere.sites import Site
+from ledelsewhere.texts import format_deeds, format_site, parse_site
+from ledelsewhere.verdicts import Verdict
 from tests.helpers import same
 
 HOME = ("home", ((), (), False))
+
+
+def small_site():
+    return Site((), (("a", ((), (), False)), ("b", ((), (), True))), "a", keep=2)
 
 
 def first_site():
@@ -107,3 +119,78 @@ class TestExamples(unittest.TestCase):
         with self.assertRaises(TooManyLeads) as caught:
             step(loop, rule, begin(loop, rule, ()).after, ("click", "loop"))
         self.assert_same(caught.exception.page, "loop")
+
+    def test_live(self):
+        live = Live(first_site(), Rule("first", "ignore"), (True,))
+        live += [("click", "desk"), ("click", "home"), ("flip", "in")]
+        found = [live.address, live.shown, live.waiting, live["in"], live.trial([("load", True)]), len(live)]
+        self.assert_same(found, ["desk", "home", "load", False, [("desk", "desk")], 3])
+
+    def test_format_site(self):
+        text = "bits in\nstart home\nkeep 4\npage home\nenter\nleave\npage desk loads\nenter\nif in\nelse\nlead home\nend\nleave\n"
+        self.assert_same(format_site(first_site()), text)
+
+    def test_parse_site(self):
+        with self.assertRaises(InvalidText) as caught:
+            parse_site("bits\nstart home\nkeep 4\npage home\nenter\nelse\n")
+        self.assert_same(caught.exception.line, 6)
+
+    def test_format_deeds(self):
+        self.assert_same(format_deeds([("click", "desk"), ("load", True), ("late", 0, False)]), "click desk\nload yes\nlate 0 no\n")
+
+    def test_book(self):
+        book = Book(small_site(), Rule("first", "cancel"))
+        self.assert_same([len(book), book.faults()], [10, [("apart", "a")]])
+        self.assert_same(book.least_fault("apart", "a"), ((), (("click", "b"), ("click", "b"))))
+        way = ("click", "load", (), "a", ("a", "b"), 1, 0)
+        self.assert_same(book.standings()[1], ((), "a", ("a", "b"), 1, way, ()))
+        between = book.deeds_between(book.standings()[3], book.standings()[9])
+        self.assert_same(between, (("click", "a"), ("back",), ("load", True)))
+
+    def test_limit_of_a_book(self):
+        with self.assertRaises(LimitExceeded) as caught:
+            Book(small_site(), Rule("first", "cancel"), limit=9)
+        self.assert_same(caught.exception.limit, 9)
+
+    def test_closed_lists(self):
+        site, rule = small_site(), Rule("first", "cancel")
+        known = Book(site, rule).standings()
+        found = [is_closed(site, rule, known), is_closed(site, rule, known[:9]), shows_free(site, rule, known, "late")]
+        self.assert_same(found, [True, False, True])
+
+    def test_verdicts(self):
+        first = Verdict([("late", "b"), ("apart", "a"), ("late", "a")])
+        found = [first.pairs(), (first ^ Verdict([("late", "a"), ("round", "b")])).pairs()]
+        expected = [[("apart", "a"), ("late", "a"), ("late", "b")], [("apart", "a"), ("late", "b"), ("round", "b")]]
+        self.assert_same(found, expected)
+
+    def test_difference(self):
+        site = small_site()
+        run = difference((site, Rule("first", "cancel")), (site, Rule("last", "cancel")))
+        self.assert_same(run, ((), (("click", "b"),)))
+
+    def test_classes_and_parting(self):
+        book = Book(small_site(), Rule("first", "cancel"))
+        found = [classes(book), parting(book, book.standings()[3], book.standings()[8])]
+        self.assert_same(found, [[[0], [1, 7], [2], [3], [4], [5], [6], [8], [9]], (("back",),)])
+
+    def test_rules_alike(self):
+        rules = [Rule("first", "cancel"), Rule("last", "cancel"), Rule("first", "cancel", lead="instead")]
+        self.assert_same(rules_alike(small_site(), rules), [[0, 2], [1]])
+
+    def test_counts(self):
+        book = Book(small_site(), Rule("first", "cancel"))
+        found = [least_shown(book, "b"), lost(book), most_leads(book)]
+        self.assert_same(found, [((), (("click", "b"), ("load", True))), [], (0, None)])
+
+    def test_heals(self):
+        site = small_site()
+        candidates = [("rule", "newer", "ignore"), ("rule", "turn", "last")]
+        rules = [Rule("first", "cancel"), Rule("last", "cancel")]
+        found = [heals(site, rules[0], "apart", candidates), rules_free(site, ["apart"], rules)]
+        self.assert_same(found, [[(("rule", "turn", "last"),)], [1]])
+
+    def test_desk(self):
+        desk = Desk(small_site(), [Rule("first", "cancel"), Rule("last", "cancel")])
+        desk.put_guard("b", "enter", (("refuse",),))
+        self.assert_same([len(desk), desk.watched, desk[("b", "enter", (0,))]], [1, (), ("refuse",)])

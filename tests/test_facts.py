@@ -1,9 +1,11 @@
-"""Point 27: eight facts, for each of the 48 rules, on drawn sites after every deed."""
+"""Point 27: eight facts, for each of the 48 rules, on drawn sites after every deed, and over books."""
 
 import random
 import unittest
 
-from ledelsewhere.errors import TooManyLeads
+from ledelsewhere.alike import alike
+from ledelsewhere.books import Book, shows_free
+from ledelsewhere.errors import LimitExceeded, TooManyLeads
 from ledelsewhere.judge import KINDS, faults
 from ledelsewhere.routing import begin, step
 from ledelsewhere.rules import all_rules
@@ -200,3 +202,75 @@ class TestPartsThatDoNotMatter(unittest.TestCase):
         for drawn in draw(11, words=NO_LEAD):
             for first, other in drawn.beside(lead=("put", "instead")):
                 self.assertEqual(first, other)
+
+
+class TestFactsOverBooks(unittest.TestCase):
+    """All facts again, for every deed from every standing of a book."""
+
+    def books(self, seed, **parts):
+        """Yields the books of some drawn sites, and of the chosen one, under each rule."""
+        source = random.Random(seed)
+        for rule in all_rules():
+            sites = [made_site(source, **parts), made_site(source, **parts)]
+            for site in sites + [chosen_site(parts.get("words", ALL_WORDS), parts.get("loading", True))]:
+                try:
+                    yield Book(site, rule, flips=source.choice((True, False)), limit=200)
+                except LimitExceeded:
+                    continue
+
+    def assert_free(self, seed, **parts):
+        for book in self.books(seed, **parts):
+            free = free_of(book.site, book.rule)
+            self.assertEqual([pair for pair in book.faults() if pair[0] in free], [], (book.site.pages, str(book.rule)))
+            for kind in sorted(free)[:2]:
+                self.assertIs(book.is_free(kind), True)
+                self.assertIs(shows_free(book.site, book.rule, book.standings(), kind, flips=book.flips), True)
+
+    def test_faults_that_are_ruled_out(self):
+        self.assert_free(12)
+        self.assert_free(13, words=QUIET)
+        self.assert_free(14, words=QUIET, enter_words=QUIET_NO_ASK)
+        self.assert_free(15, words=QUIET_NO_ASK, loading=False)
+        self.assert_free(16, words=NO_LEAD)
+
+    def test_late_stays_empty(self):
+        for book in self.books(17):
+            if book.rule.newer != "race":
+                self.assertTrue(all(standing[5] == () for standing in book.standings()))
+
+    def test_entries_were_shown(self):
+        # Along the least run of each standing every entry was the start page or was shown behind some deed.
+        for book in self.books(18):
+            if book.rule.turn == "last" and book.rule.lead == "instead":
+                for standing in book.standings():
+                    flags, taken = book.least_run(standing)
+                    now = begin(book.site, book.rule, flags).after
+                    shown = {now[1]}
+                    for deed in taken:
+                        events, now = step(book.site, book.rule, now, deed).events, book.follow(now, deed)
+                        shown.update(event[1] for event in events if event[0] == "shown" or event[0] == "late" and event[2])
+                    self.assertLessEqual(set(standing[2]), shown)
+
+    def assert_alike(self, seed, others, **parts):
+        for book in self.books(seed, **parts):
+            for other in others(book.rule):
+                same = alike((book.site, book.rule), (book.site, other), flips=book.flips, limit=20000)
+                self.assertIs(same, True, (book.site.pages, str(book.rule), str(other)))
+
+    def test_parts_that_do_not_matter(self):
+        def other_turn_and_again(rule):
+            return [rule.with_part("turn", "first" if rule.turn == "last" else "last"), rule.with_part("again", not rule.again)]
+
+        def cancel_and_race(rule):
+            return [] if rule.newer == "ignore" else [rule.with_part("newer", newer) for newer in ("cancel", "race")]
+
+        def each_newer(rule):
+            return [rule.with_part("newer", newer) for newer in ("cancel", "ignore", "race")]
+
+        def each_lead(rule):
+            return [rule.with_part("lead", lead) for lead in ("put", "instead")]
+
+        self.assert_alike(19, other_turn_and_again, loading=False)
+        self.assert_alike(20, cancel_and_race, loading=False)
+        self.assert_alike(21, each_newer, words=NO_ASK, loading=False)
+        self.assert_alike(22, each_lead, words=NO_LEAD)

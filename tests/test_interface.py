@@ -1,6 +1,7 @@
 """The interface: names, arguments, defaults and places; and the rules of the language that are easy to count."""
 
 import ast
+import builtins
 import pathlib
 import unittest
 
@@ -27,6 +28,38 @@ FUNCTIONS = {
         "step": "site, rule, standing, deed",
     },
     "judge": {"faults": "site, rule, step"},
+    "texts": {
+        "format_site": "site",
+        "parse_site": "text",
+        "format_deeds": "deeds",
+        "parse_deeds": "text",
+    },
+    "books": {
+        "is_closed": "site, rule, value, *, flips=True",
+        "shows_free": "site, rule, value, kind, *, flips=True",
+    },
+    "alike": {
+        "difference": "first, second, *, flips=True, limit=5000",
+        "alike": "first, second, *, flips=True, limit=5000",
+        "pairing": "first, second, *, flips=True, limit=5000",
+        "is_pairing": "first, second, value, *, flips=True",
+        "parting": "book, first, second",
+        "classes": "book",
+        "rules_alike": "site, rules, *, flips=True, limit=5000",
+    },
+    "counting": {
+        "most_leads": "book",
+        "never_done": "book",
+        "least_shown": "book, page",
+        "is_settled": "standing",
+        "lost": "book",
+    },
+    "heals": {
+        "is_change": "site, rule, value",
+        "with_changes": "site, rule, changes",
+        "heals": "site, rule, kind, candidates, *, flips=True, limit=2000",
+        "rules_free": "site, kinds, rules, *, flips=True, limit=2000",
+    },
 }
 METHODS = {
     ("sites", "Site"): {
@@ -49,6 +82,74 @@ METHODS = {
         "named": "cls, text",
     },
     ("routing", "Step"): {"__init__": "deed, before, after, events, done"},
+    ("live", "Live"): {
+        "__init__": "site, rule, flags=None, *, standing=None",
+        "address": "",
+        "shown": "",
+        "waiting": "",
+        "perform": "deed",
+        "click": "page",
+        "back": "",
+        "forward": "",
+        "answer": "flag",
+        "load": "flag",
+        "late": "k, flag",
+        "__getitem__": "at",
+        "__setitem__": "at, worth",
+        "__contains__": "x",
+        "__iadd__": "other",
+        "__len__": "",
+        "trial": "deeds",
+        "standing": "",
+        "last_events": "",
+        "deeds_done": "",
+        "seen": "",
+        "undo": "",
+        "fork": "",
+    },
+    ("books", "Book"): {
+        "__init__": "site, rule, *, flips=True, limit=2000",
+        "__len__": "",
+        "__contains__": "x",
+        "moves": "",
+        "standings": "",
+        "least_run": "standing",
+        "follow": "standing, deed",
+        "faults": "",
+        "least_fault": "kind, page",
+        "is_free": "kind",
+        "verdict": "",
+        "deeds_between": "first, second",
+    },
+    ("verdicts", "Verdict"): {
+        "__init__": "pairs",
+        "pairs": "",
+        "kinds": "",
+        "only": "kinds",
+        "__or__": "other",
+        "__and__": "other",
+        "__sub__": "other",
+        "__xor__": "other",
+        "__eq__": "other",
+        "__len__": "",
+        "__contains__": "x",
+        "__bool__": "",
+    },
+    ("desk", "Desk"): {
+        "__init__": "site, rules, *, flips=True, limit=2000",
+        "set_bound": "value",
+        "__ior__": "other",
+        "__isub__": "other",
+        "__getitem__": "at",
+        "__setitem__": "at, worth",
+        "put_guard": "page, side, rows",
+        "put_site": "site",
+        "__len__": "",
+        "undo": "",
+        "redo": "",
+        "verdicts": "",
+        "attempt": "edits",
+    },
 }
 BARRED_WORDS = (
     "type", "typing", "typing_extensions", "enum", "Enum", "IntEnum", "StrEnum", "Flag", "IntFlag", "Generic",
@@ -87,6 +188,27 @@ class TestInterface(unittest.TestCase):
 
 
 class TestLanguage(unittest.TestCase):
+    def test_no_name_is_a_method_and_an_attribute(self):
+        methods, attributes = set(), set()
+        for path in PACKAGE.glob("*.py"):
+            tree = tree_of(path)
+            for node in tree.body:
+                if isinstance(node, ast.ClassDef):
+                    methods.update(functions_in(node.body))
+            nodes = [node for node in ast.walk(tree) if isinstance(node, ast.Attribute)]
+            attributes.update(node.attr for node in nodes if isinstance(node.ctx, ast.Store))
+        self.assertEqual(methods & attributes, set())
+
+    def test_no_local_name_is_that_of_a_class_or_an_import(self):
+        for path in PACKAGE.glob("*.py"):
+            tree = tree_of(path)
+            taken = {node.name for node in tree.body if isinstance(node, ast.ClassDef)}
+            taken.update(name.name for node in tree.body if isinstance(node, ast.ImportFrom) for name in node.names)
+            given = {node.arg for node in ast.walk(tree) if isinstance(node, ast.arg)}
+            given.update(node.id for node in ast.walk(tree) if isinstance(node, ast.Name) and isinstance(node.ctx, ast.Store))
+            with self.subTest(path.name):
+                self.assertEqual(given & (taken | set(dir(builtins))), set())
+
     def test_sizes_and_signs(self):
         for path in PACKAGE.glob("*.py"):
             with self.subTest(path.name):
