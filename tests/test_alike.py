@@ -336,24 +336,32 @@ class TestIsPairing(unittest.TestCase):
         for at in range(len(kept)):
             self.assertIs(is_pairing(FIRST, INSTEAD, kept[:at] + kept[at + 1:]), False)
 
+    def closed(self, value):
+        """The list with all tuples that follow from its items, the first of FIRST and the second of INSTEAD."""
+        first, second = Plain(SMALL, FIRST[1], True), Plain(SMALL, INSTEAD[1], True)
+        more = list(value)
+        for one, other in more:
+            both = zip(first.steps_from(one), second.steps_from(other))
+            more.extend(pair for pair in ((made.after, beside.after) for made, beside in both) if pair not in more)
+        return more
+
     def test_tuples_that_no_run_leads_to(self):
         kept = pairing(FIRST, INSTEAD)
         lone = ((), "a", ("b", "b"), 0, None, ())
         self.assertIs(is_pairing(FIRST, INSTEAD, kept + [(lone, lone)]), False)
-        first, second = Plain(SMALL, FIRST[1], True), Plain(SMALL, INSTEAD[1], True)
-        more = kept + [(lone, lone)]
-        for one, other in more:
-            both = zip(first.steps_from(one), second.steps_from(other))
-            more.extend(pair for pair in ((made.after, beside.after) for made, beside in both) if pair not in more)
-        self.assertIs(is_pairing(FIRST, INSTEAD, more), True)
+        more = self.closed(kept + [(lone, lone)])
         self.assertGreater(len(more), len(kept) + 1)
+        self.assertIs(is_pairing(FIRST, INSTEAD, more), True)
 
     def test_views_that_differ(self):
         kept = pairing(FIRST, INSTEAD)
-        # All that follows is in the list, but the two pages differ.
-        one = ((), "a", ("b", "b"), 0, None, ())
-        for value in (kept + [(one, kept[0][1])], kept + [(kept[0][0], ((), "b", ("a",), 0, None, ()))]):
-            self.assertIs(is_pairing(FIRST, INSTEAD, value), False)
+        start = kept[0][0]
+        for other in (((), "b", ("a",), 0, None, ()), ((), "a", ("b",), 0, None, ()), ((), "b", ("b",), 0, None, ())):
+            for pair in ((start, other), (other, start)):
+                # Alone the tuple lacks what follows; with all that follows it is only the view that is wrong.
+                self.assertIs(is_pairing(FIRST, INSTEAD, kept + [pair]), False)
+                self.assertIs(is_pairing(FIRST, INSTEAD, self.closed(kept + [pair])), False)
+        self.assertEqual(self.closed(kept), kept)
 
     def test_a_deed_that_is_refused_on_one_side(self):
         loop = (SMALL.with_guard("b", "enter", (("lead", "b"),)), FIRST[1])

@@ -159,7 +159,7 @@ class TestParseSite(unittest.TestCase):
             self.assertEqual(line_of(f"{line}\nstart home\nkeep 4\n{rest}"), 1, line)
         for line in ("start", "start ", "start home home", "begin home", "start Home", "start  home", "keep 4", ""):
             self.assertEqual(line_of(f"bits in\n{line}\nkeep 4\n{rest}"), 2, line)
-        for line in ("keep", "keep 1", "keep 5", "keep 04", "keep 44", "keep  4", "keep 4 ", "keep four", "keep -2", "page home"):
+        for line in ("keep", "keep 1", "keep 5", "keep 04", "keep 44", "keep  4", "keep 4 ", "keep four", "keep -2", "kept 4", "page home"):
             self.assertEqual(line_of(f"bits in\nstart home\n{line}\n{rest}"), 3, line)
 
     def test_names_are_1_to_8_letters_from_a_to_z(self):
@@ -178,7 +178,7 @@ class TestParseSite(unittest.TestCase):
         wrong = (
             "refuse now", "refuse ", " refuse", "refused", "lead", "lead a b", "lead  a", "set in", "set in yes", "set in on on",
             "set on", "set in On", "set  in on", "set\tin on", "if", "if in out", "if in ", "ask in", "ask ", "else ", "end ",
-            "Ask", "in", "loads", "\t", " ", "enter ", "leave ", "else if", "end end",
+            "sat in on", "led a", "of in", "Ask", "in", "loads", "\t", " ", "enter ", "leave ", "else if", "end end",
         )
         for line in wrong:
             self.assertEqual(line_of(HEAD + f"page desk\nenter\nask\n{line}\nelse\nend\nleave\n"), 7, line)
