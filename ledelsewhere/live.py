@@ -65,9 +65,11 @@ class Live:
         return self.perform(("late", k, flag))
 
     def __getitem__(self, at):
-        if at not in self.site.bits:
-            raise UnknownBit(at)
-        return self.standing()[0][self.site.bits.index(at)]
+        flags = self.standing()[0]
+        for bit, flag in zip(self.site.bits, flags):
+            if bit == at:
+                return flag
+        raise UnknownBit(at)
 
     def __iter__(self):
         raise TypeError("a live site is not iterated over")

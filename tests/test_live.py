@@ -209,6 +209,35 @@ class TestBits(unittest.TestCase):
         self.assertIs("in" in live, True)
         self.assertIs("out" in live, True)
 
+    def test_reading_each_bit_now(self):
+        # A bit may have the name of a page.
+        for bits in (("in",), ("in", "home"), ("zebra", "in", "home")):
+            site = Site(bits, PAGES, "home")
+            for flags in all_flags(site):
+                live = Live(site, RULE, flags)
+                given = Live(site, RULE, standing=live.standing())
+                for at, bit in enumerate(bits):
+                    self.assertIs(live[bit], flags[at])
+                    self.assertIs(given[bit], flags[at])
+                    live.perform(("flip", bit))
+                    self.assertEqual([live[other] for other in bits], [
+                        flag != (index <= at) for index, flag in enumerate(flags)
+                    ])
+                self.assertEqual((live[bits[0]], live[bits[-1]]), (not flags[0], not flags[-1]))
+                live.undo()
+                self.assertIs(live[bits[-1]], flags[-1])
+
+    def test_what_is_no_bit_of_this_site(self):
+        for bits in ((), ("in",), ("in", "out", "mid")):
+            live = Live(Site(bits, PAGES, "home"), RULE)
+            for value in ANY_VALUES + (deep_value(20), "In", "in ", "home", bits, list(bits), 2, -2):
+                with self.subTest(bits=bits, value=value):
+                    with self.assertRaises(UnknownBit) as caught:
+                        live[value]
+                    self.assertIs(caught.exception.bit, value)
+                    self.assertIs(value in live, False)
+            self.assertEqual(live.deeds_done(), [])
+
     def test_any_value_may_be_asked_for(self):
         live = live_site()
         for value in (None, True, 0, "home", "", ("in",), ["in"], {"in": 1}, ("in", "out"), deep_value(20)):
