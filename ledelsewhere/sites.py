@@ -40,10 +40,11 @@ class Site:
 
     def guard(self, page, side):
         """The rows of the guard."""
-        found = find_page(self.pages, page)
-        if side not in SIDES:
-            raise InvalidSide(side)
-        return found[SIDES.index(side)]
+        parts = find_page(self.pages, page)
+        for at, known in enumerate(SIDES):
+            if known == side:
+                return parts[at]
+        raise InvalidSide(side)
 
     def loads(self, page):
         """The flag that says whether the page loads."""

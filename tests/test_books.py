@@ -28,6 +28,23 @@ ASKING = Site(
     keep=2,
 )
 RACE = Rule("last", "race", again=True)
+# A way waits at each of the four stages: home asks before it is left, and desk asks before it is entered and loads.
+WAITING = Site(
+    ("in",),
+    (
+        ("home", ((("set", "in", True),), (("if", "in", (("ask", (), (("refuse",),)),), ()),), False)),
+        ("desk", ((("ask", (), (("refuse",),)), ("ask", (), ())), (), True)),
+    ),
+    "home",
+    keep=2,
+)
+# For each stage what is not the position of a way that waits there.
+NO_POSITIONS = {
+    "leave": ((), (0,), (1,), (0, 0), (0, 0, 1), (0, 1, 0), (0, 0, False), [0, 0, 0], None),
+    "enter": ((), (2,), (0, 1, 0), (0, 0, 0), (False,), (True,), [0], 0, None),
+    "load": ((0,), (0, 0, 0), [], False, 0, None),
+    "anew": ((), (2,), (0, 1, 0), (0, 0, 0), (False,), (True,), [1], 1, None),
+}
 
 
 def swapped(value):
@@ -55,6 +72,17 @@ def look_alikes(value):
 def unlike(standing):
     """Values that are no standings although they are made of one."""
     return [list(standing), standing[:5], standing + ((),), (standing,), {standing[1]: standing}, [standing]]
+
+
+def ways_that_cannot_wait(way):
+    """Values that are made of a way of the site WAITING and are no ways there."""
+    stage = way[1]
+    found = [replaced(way, 2, other) for other in NO_POSITIONS[stage]]
+    found.extend(replaced(way, 1, other) for other in (stage.upper(), stage + "s", "", None, 0, True, (stage,), [stage]))
+    found.extend(replaced(way, 3, other) for other in (None, "no", "", ("home",), ["home"]))
+    found.extend(replaced(way, 5, other) for other in (-1, len(way[4]), None, bool(way[5])))
+    found.extend([way[:6], way + (0,), list(way), (), (way,)])
+    return found
 
 
 class TestAgainstThePlainSearch(unittest.TestCase):
@@ -211,6 +239,27 @@ class TestAnyValues(unittest.TestCase):
         for value in look_alikes(book.standings()[-1]):
             self.assert_none(book, value)
         self.assertGreater(many, len(book))
+
+    def test_ways_at_each_stage(self):
+        for rule in all_rules():
+            plain = Plain(WAITING, rule, False)
+            book = Book(WAITING, rule, flips=False)
+            met = {standing[4][1]: standing for standing in plain.standings() if standing[4] is not None}
+            # A way waits at the stage anew only if again is True.
+            self.assertEqual(set(met), {"leave", "enter", "load"} | ({"anew"} if rule.again else set()))
+            for standing in plain.standings():
+                self.assertIs(standing in book, True)
+            for stage, standing in met.items():
+                with self.subTest(rule=str(rule), stage=stage):
+                    self.assertIs(standing in book, True)
+                    for way in ways_that_cannot_wait(standing[4]):
+                        value = replaced(standing, 4, way)
+                        self.assertIs(is_standing(WAITING, rule, value), False)
+                        self.assertIs(value in book, False)
+                    # No row of the site leads anywhere, so no run leads to a way that was led.
+                    value = replaced(standing, 4, replaced(standing[4], 6, 5))
+                    self.assertIs(is_standing(WAITING, rule, value), True)
+                    self.assertIs(value in book, False)
 
     def test_standings_that_no_run_leads_to(self):
         book = Book(SMALL, RULE)

@@ -169,6 +169,30 @@ def arguments_of(function):
     return ast.unparse(function.args).replace("self, ", "").replace("self", "")
 
 
+def called_name(call):
+    return call.func.attr if isinstance(call.func, ast.Attribute) else call.func.id
+
+
+def is_unchanging(method):
+    """True for operators and properties, but not for those operators that may change something."""
+    name = method.name
+    if name.startswith("__"):
+        return name not in ("__init__", "__setitem__", "__iadd__", "__ior__", "__isub__")
+    return any(ast.unparse(decorator) == "property" for decorator in method.decorator_list)
+
+
+def run_by(method, known):
+    """The calls in the method and in all functions and methods of the package that it calls, by their names."""
+    calls, names, todo = [], set(), [method]
+    while todo:
+        made = [node for node in ast.walk(todo.pop()) if isinstance(node, ast.Call)]
+        calls.extend(made)
+        for name in {called_name(call) for call in made} - names:
+            names.add(name)
+            todo.extend(known.get(name, []))
+    return calls
+
+
 class TestInterface(unittest.TestCase):
     def test_functions(self):
         for module, functions in FUNCTIONS.items():
@@ -198,6 +222,29 @@ class TestLanguage(unittest.TestCase):
             nodes = [node for node in ast.walk(tree) if isinstance(node, ast.Attribute)]
             attributes.update(node.attr for node in nodes if isinstance(node.ctx, ast.Store))
         self.assertEqual(methods & attributes, set())
+
+    def test_operators_and_properties_call_nothing_that_an_object_holds(self):
+        known, attributes, methods = {}, set(), []
+        for path in PACKAGE.glob("*.py"):
+            for node in ast.walk(tree_of(path)):
+                if isinstance(node, ast.FunctionDef):
+                    known.setdefault(node.name, []).append(node)
+                elif isinstance(node, ast.ClassDef):
+                    found = functions_in(node.body)
+                    known.setdefault(node.name, []).extend([found["__init__"]] if "__init__" in found else [])
+                    methods.extend((node.name, method) for method in found.values() if is_unchanging(method))
+                elif isinstance(node, ast.Attribute) and isinstance(node.ctx, ast.Store):
+                    attributes.add(node.attr)
+        # InvalidChange holds an index, so the index of a list or a tuple is no call that these may make.
+        self.assertIn("index", attributes)
+        self.assertIn(("Book", "__contains__"), [(name, method.name) for name, method in methods])
+        for name, method in methods:
+            given = {argument.arg for argument in method.args.args}
+            with self.subTest(name=name, method=method.name):
+                calls = run_by(method, known)
+                held = [call for call in calls if isinstance(call.func, ast.Attribute) and call.func.attr in attributes]
+                self.assertEqual([ast.unparse(call) for call in held], [])
+                self.assertEqual(given & {called_name(call) for call in calls}, set())
 
     def test_no_local_name_is_that_of_a_class_or_an_import(self):
         for path in PACKAGE.glob("*.py"):

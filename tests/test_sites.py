@@ -54,6 +54,19 @@ class TestParts(Raising):
         self.assertEqual(SITE.guard("mid", "leave"), ())
         self.assertEqual(SITE.guard("desk", "leave"), (SET, IF))
 
+    def test_guard_on_both_sides_of_each_page(self):
+        for name, parts in PAGES:
+            self.assertIs(SITE.guard(name, "enter"), parts[0])
+            self.assertIs(SITE.guard(name, "leave"), parts[1])
+
+    def test_guard_of_what_looks_like_a_side(self):
+        for value in ("Enter", "enter ", "leaves", "loads", ("enter",), ["leave"], ("enter", "leave"), 2, -2):
+            for page in SITE.page_names():
+                with self.subTest(value=value, page=page):
+                    self.assert_raises(InvalidSide, (value,), SITE.guard, page, value)
+            # Of two things that are wrong the page comes first.
+            self.assert_raises(UnknownPage, (value,), SITE.guard, value, value)
+
     def test_guard_of_wrong_pages_and_sides(self):
         for value in ANY_VALUES + (deep_value(20), "in", "Home"):
             with self.subTest(value=value):
